@@ -3,6 +3,9 @@
 from trailparts.errors import NoPart, TooMuch
 from trailparts.values import digits_of, is_digits, is_plain_int, number_of
 
+NOTHING = (0, 1)
+WHOLE = (1, 1)
+
 
 def is_part(thing):
     """Return whether any value is a part."""
