@@ -21,9 +21,16 @@ BARRED_WORDS = (
 ).split()
 BARRED_PIECES = ["dataclass", "overload", "contextmanager"]
 BARRED_NAMES = "register mro elements open input law version_info with_traceback add_note".split()
+# Generators are allowed, but hardly so beside a class with __eq__, and the package does without them.
 BARRED_NODES = (
     ast.Global, ast.AsyncFunctionDef, ast.AsyncFor, ast.AsyncWith, ast.Await, ast.Div, ast.MatMult, ast.Import,
+    ast.ExceptHandler, ast.GeneratorExp, ast.Yield, ast.YieldFrom, ast.Lambda, ast.Starred, ast.NamedExpr,
 )
+BUILTIN_METHODS = (
+    "append clear copy count endswith extend find get index insert isalnum isalpha isdigit islower isspace isupper items "
+    "join keys ljust lower lstrip partition pop remove replace reverse rfind rjust rpartition rsplit rstrip setdefault split "
+    "splitlines startswith strip update upper values zfill bit_length isascii"
+).split()
 
 
 def nodes(tree, kind):
@@ -102,6 +109,30 @@ def value_faults(text, tree):
     return faults
 
 
+def call_faults(text, tree):
+    """Return the methods that are called and are neither the package's own nor allowed ones of builtin values."""
+    own = [name for path in FILES for name in methods(ast.parse(path.read_text(encoding="utf-8")))]
+    called = [node.func.attr for node in nodes(tree, ast.Call) if isinstance(node.func, ast.Attribute)]
+    return [name for name in called if name not in own and name not in BUILTIN_METHODS]
+
+
+def finally_faults(text, tree):
+    """Return the rows of finally blocks that do more than assign a name or a literal to an attribute."""
+    rows = [row for node in nodes(tree, ast.Try) for row in node.finalbody]
+    return [row.lineno for row in rows if not isinstance(row, ast.Assign)
+            or not isinstance(row.value, (ast.Name, ast.Constant)) or not isinstance(row.targets[0], ast.Attribute)]
+
+
+def table_faults(text, tree):
+    """Return the module-level tables that are used otherwise than by an index or in."""
+    tables = [row.targets[0].id for row in tree.body if isinstance(row, ast.Assign) and isinstance(row.value, ast.Dict)]
+    uses = [node for node in nodes(tree, ast.Name) if node.id in tables and isinstance(node.ctx, ast.Load)]
+    right = [node.value for node in nodes(tree, ast.Subscript)]
+    right.extend([side for node in nodes(tree, ast.Compare) for side in node.comparators])
+    called = [node.func for node in nodes(tree, ast.Call) if isinstance(node.func, ast.Subscript)]
+    return [node.lineno for node in uses if node not in right] + [node.lineno for node in called]
+
+
 def name_faults(text, tree):
     taken = imported(tree) + [node.name for node in nodes(tree, ast.ClassDef)]
     bound = local_names(tree) + [node.name for node in nodes(tree, (ast.FunctionDef, ast.ClassDef))]
@@ -145,6 +176,15 @@ class LanguageTest(unittest.TestCase):
 
     def test_values_and_comparisons(self):
         self.assert_none(value_faults)
+
+    def test_methods_of_builtin_values(self):
+        self.assert_none(call_faults)
+
+    def test_finally(self):
+        self.assert_none(finally_faults)
+
+    def test_tables_of_functions(self):
+        self.assert_none(table_faults)
 
     def test_names(self):
         self.assert_none(name_faults)

@@ -153,6 +153,28 @@ class DeadSetTest(LooksCase):
         world.rest()
         self.assertEqual(world.slots(0), [])
 
+    def test_the_order_in_which_slots_were_taken_does_not_count(self):
+        world = World(1, ["ann"])
+        for name in ["u", "v", "w"]:
+            world.make("ann", name, 0)
+        world.drop("ann", "v")
+        world.drop("ann", "u")
+        world.rest()
+        world.make("ann", "u", 0)
+        world.make("ann", "v", 0)
+        self.assertEqual([world.address("ann", name)[1] for name in "uvw"], [0, 1, 2])
+        for name in "wuv":
+            world.ask("ann", name, ("take", "a"), gift=name)
+        world.rest()
+        for name in "wuv":
+            world.drop("ann", name)
+        world.rest()
+        world.look()
+        world.deliver()
+        world.deliver()
+        self.deliver_told(world, ("empty", 1, 0))
+        self.assert_exact([letter[:3] for letter in world.letters()], [("back", 0, 0), ("back", 0, 1), ("back", 0, 2)])
+
     def test_what_a_variable_reaches_stays_although_dead_ones_hold_it(self):
         world = self.ring()
         world.make("bob", "y", 2)

@@ -60,6 +60,74 @@ class TrialTest(WorldCase):
             do_event(world, events[-1])
         return events
 
+    def test_within_it_all_goes_on_as_it_would_without(self):
+        for seed in range(60):
+            world, model = random_world(seed, 60)
+            twin, unused = random_world(seed, 60)
+            chance = random.Random(seed + 1000)
+
+            def function(world, depth):
+                self.assertEqual(self.view(world), self.view(twin))
+                for step in range(15):
+                    event = random_event(chance, model, EVEN)
+                    results = [do_event(one, event) for one in (world, twin, model)]
+                    self.assertEqual(results, [results[0]] * 3)
+                self.assertEqual(self.view(world), self.view(twin))
+                self.assertEqual(self.counters(world), self.counters(twin))
+                self.assertIs(world == twin, True)
+                if depth < 3:
+                    world.trial(lambda world: function(world, depth + 1))
+
+            world.trial(lambda world: function(world, 1))
+
+    def test_within_it_a_look_that_was_begun_before_goes_on(self):
+        for before in range(9):
+            world = self.boxed()
+            world.ask("ann", "x", ("take", "a"), gift="x")
+            world.rest()
+            world.drop("ann", "x")
+            world.drop("ann", "y")
+            world.rest()
+            world.look()
+            for step in range(before):
+                world.deliver()
+
+            def function(world):
+                world.rest()
+                return [world.slots(house) for house in range(3)]
+
+            self.assertEqual(world.trial(lambda world: world.trial(function)), [[], [], []])
+
+    def test_within_it_an_object_in_a_slot_that_was_freed_is_another_one(self):
+        world = self.new_world()
+        world.make("ann", "x", 0)
+        world.ask("ann", "x", ("take", "a"), gift="x")
+        world.rest()
+        world.drop("ann", "x")
+        world.rest()
+        for look in [1, 2]:
+            world.look()
+            for step in range(6):
+                self.deliver_kind(world, "look")
+        self.assert_exact(world.letters(), [("empty", 1, 0), ("empty", 2, 0)])
+
+        def function(world):
+            self.deliver_told(world, ("empty", 1, 0))
+            self.deliver_kind(world, "back")
+            world.make("ann", "x", 0)
+            world.ask("ann", "x", ("take", "a"), gift="x")
+            self.deliver_kind(world, "ask")
+            self.deliver_told(world, ("empty", 2, 0))
+            return world.inside(0, 0)
+
+        self.assert_exact(world.trial(function), ("object", 0, {"a": (0, 0, 0, (1, 4))}))
+
+    def test_within_it_gifts_are_numbered_on(self):
+        world = self.boxed()
+        world.send("ann", "x", "bob", "w")
+        world.trial(lambda world: (world.send("ann", "x", "bob", "v"), world.rest(),
+                                   self.assertEqual(world.log()[-2:], [("given", 1), ("given", 2)])))
+
     def test_an_error_propagates_and_the_world_is_as_before(self):
         for seed in range(10):
             world, model = random_world(seed, 40)
@@ -365,6 +433,25 @@ class EqualTest(WorldCase):
         one.trial(lambda world: self.assert_equal_worlds(world, other, True))
         one.trial(lambda world: (world.rest(), self.assert_equal_worlds(world, other, False)))
         self.assert_equal_worlds(one, other, True)
+
+    def test_the_order_in_which_slots_were_taken_does_not_count(self):
+        one, other = self.two([])
+        for name in ["x", "y", "z"]:
+            one.make("ann", name, 0)
+            other.make("ann", name, 0)
+        for world, names in [(one, ["x"]), (other, ["y", "x"])]:
+            for name in names:
+                world.drop("ann", name)
+            world.rest()
+        one.make("ann", "x", 0)
+        other.make("ann", "x", 0)
+        other.make("ann", "y", 0)
+        self.assert_equal_worlds(one, other, True)
+        one.ask("ann", "y", ("add", 1))
+        one.rest()
+        other.ask("ann", "z", ("add", 1))
+        other.rest()
+        self.assert_equal_worlds(one, other, False)
 
     def test_comparing_changes_nothing(self):
         one, model = random_world(5, 60)

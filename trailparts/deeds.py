@@ -10,7 +10,7 @@ WORDS_WITH_TARGET = ("give", "make", "clone")
 
 def is_deed(thing):
     """Return whether any value is a deed."""
-    if not isinstance(thing, tuple) or len(thing) not in (1, 2) or not isinstance(thing[0], str):
+    if not isinstance(thing, tuple) or len(thing) not in (1, 2):
         return False
     word = thing[0]
     if len(thing) == 1:

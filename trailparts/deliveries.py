@@ -104,15 +104,19 @@ def deliver_reply(state, letter):
     if slot.purse == WHOLE:
         leave(state, house, number)
         send_back(state, letter.bears)
-        return
+    else:
+        become_note(state, slot, letter.bears)
+
+
+def become_note(state, slot, address):
+    """Turn a departing slot into a note with an address, and let all that waits there pass it."""
     waiting = slot.waiting
     slot.kind = "note"
-    slot.note = letter.bears
-    slot.heir = None
+    slot.note = address
     slot.waiting = []
     slot.changes += 1
-    for waited in waiting:
-        pass_note(state, slot, waited)
+    for letter in waiting:
+        pass_note(state, slot, letter)
 
 
 def deliver_found(state, letter):

@@ -52,7 +52,6 @@ def send_object(state, house, number, to):
     slot = state.houses[house][number]
     send_letter(state, Letter(("object", house, number, to), load=(slot.number, slot.boxes)))
     slot.kind = "departing"
-    slot.number = 0
     slot.boxes = {}
     slot.changes += 1
 

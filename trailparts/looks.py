@@ -46,7 +46,7 @@ def told_of(slot):
 
 
 def end_look(state, number):
-    """Find the dead set, and send for each house in which it has a box to empty."""
+    """Find the dead set, and send a letter to each house in which an object of it has a box."""
     look = state.looks[number]
     dead = dead_set(look.second)
     look.dead = {place: dead[place][0] for place in dead}

@@ -6,9 +6,9 @@ from trailparts.parts import NOTHING
 class Slot:
     """One occupation of a slot.
 
-    kind: "object", "departing" or "note"; number and boxes: the object's; note: the note's address; heir: of a
-    departing slot, where its object was delivered; waiting: the letters that wait; changes: how often it has changed,
-    as looks understand it.
+    kind: "object", "departing" or "note"; number and boxes: the object's; note: the note's address; heir: where the
+    object that left was delivered; waiting: the letters that wait; changes: how often it has changed, as looks
+    understand it.
     """
 
     def __init__(self, occupation, age):
