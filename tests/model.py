@@ -135,24 +135,34 @@ class Model:
 
     # Weights, for every moment.
 
-    def all_refs(self):
-        """Return all addresses that are held or under way."""
-        refs = [setting.ref for held in self.variables.values() for setting in held.values()]
+    def all_held(self):
+        """Return pairs (holder, address) of all addresses that are held or under way."""
+        held = [(("variable", hand, name), setting.ref) for hand, variables in self.variables.items()
+                for name, setting in variables.items()]
+        letters = list(self.under_way)
         for house in self.houses:
             for slot in house:
-                refs.extend(slot.refs())
-                refs.extend(ref for letter in slot.waiting for ref in letter["refs"])
-        for letter in self.under_way:
-            refs.extend(letter["refs"])
+                place = (slot.house, slot.number)
+                if slot.state() == "note":
+                    held.append((("note",) + place, slot.note))
+                elif slot.state() == "object":
+                    held.extend((("box",) + place + (box,), setting.ref) for box, setting in slot.being.boxes.items())
+                letters.extend(slot.waiting)
+        for letter in letters:
+            held.extend((("letter",), ref) for ref in letter["refs"])
             if letter["kind"] == "object":
-                refs.extend(setting.ref for setting in letter["left"].being.boxes.values())
-        return refs
+                held.extend((("letter",), setting.ref) for setting in letter["left"].being.boxes.values())
+        return held
+
+    def holders(self, house, number):
+        slot = self.at(house, number)
+        return sorted((holder, ref.told()[3]) for holder, ref in self.all_held() if ref.occupation is slot)
 
     def faults(self):
         """Return the occupations whose purse and parts do not come to the whole, and the addresses of freed ones."""
         sums = {slot: slot.purse for house in self.houses for slot in house}
         faults = []
-        for ref in self.all_refs():
+        for holder, ref in self.all_held():
             if ref.occupation.over or ref.weight <= 0:
                 faults.append(ref.told())
             else:
@@ -467,9 +477,37 @@ class Model:
         trail = self.trail(first)
         return len(trail) - 1 + (trail[-1].state() == "departing")
 
-    def reached(self):
-        """Return the places of the slots that variables reach, if nothing is under way."""
-        found = [setting.ref.occupation for held in self.variables.values() for setting in held.values()]
+    def reached(self, also_by_letters=False):
+        """Return the places of the slots that variables reach, or variables and letters."""
+        roots = ("variable", "letter") if also_by_letters else ("variable",)
+        found = [ref.occupation for holder, ref in self.all_held() if holder[0] in roots]
         for slot in found:
             found.extend({ref.occupation for ref in slot.refs()} - set(found))
         return sorted({(slot.house, slot.number) for slot in found})
+
+    # Papers.
+
+    def accepts(self, house, number, paper):
+        """Return whether something is a paper of an occupied slot, if its kinds of values are those of papers."""
+        if paper[0] == "reached":
+            return self.accepts_path(house, number, *paper[1:])
+        return self.accepts_dead(house, number, *paper[1:])
+
+    def accepts_path(self, house, number, root, path):
+        if path[-1:] != [(house, number)] or any(path.count(place) > 1 for place in path):
+            return False
+        heads = [ref.occupation for holder, ref in self.all_held() if holder == root and root[0] in ("variable", "letter")]
+        for place in path:
+            heads = [slot for slot in heads if (slot.house, slot.number) == place]
+            if not heads:
+                return False
+            heads = heads[0].refs()
+            heads = [ref.occupation for ref in heads]
+        return True
+
+    def accepts_dead(self, house, number, slots):
+        taken = [(slot.house, slot.number) for rooms in self.houses for slot in rooms]
+        if (house, number) not in slots or slots != sorted(set(slots)) or not set(slots) <= set(taken):
+            return False
+        holders = [holder for place in slots for holder, part in self.holders(*place)]
+        return all(holder[0] in ("box", "note") and holder[1:3] in slots for holder in holders)

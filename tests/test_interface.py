@@ -4,6 +4,7 @@ import importlib
 import inspect
 import unittest
 
+from trailparts.desk import Desk
 from trailparts.worlds import World
 
 FUNCTIONS = {
@@ -31,9 +32,21 @@ FUNCTIONS = {
     "trailparts.onehouse": {
         "as_if": "(hands, log)",
     },
+    "trailparts.weights": {
+        "holders": "(world, house, number)",
+    },
+    "trailparts.papers": {
+        "paper_of": "(world, house, number)",
+        "holds": "(world, house, number, paper)",
+    },
+    "trailparts.histories": {
+        "played": "(houses, hands, events)",
+        "history_text": "(events)",
+        "read_history": "(text)",
+    },
 }
 
-METHODS = {
+WORLD_METHODS = {
     "__init__": "(self, houses, hands)",
     "__len__": "(self)",
     "__repr__": "(self)",
@@ -60,6 +73,11 @@ METHODS = {
     "trial": "(self, function)",
 }
 
+DESK_METHODS = {
+    "__init__": "(self)",
+    "say": "(self, row)",
+}
+
 
 class InterfaceTest(unittest.TestCase):
     def test_each_function_stands_in_its_file_with_its_arguments(self):
@@ -71,12 +89,16 @@ class InterfaceTest(unittest.TestCase):
                 self.assertEqual((function.__module__, function.__name__), (place, name))
                 self.assertEqual(str(inspect.signature(function)), arguments, name)
 
-    def test_each_method_of_world_stands_in_the_class_itself(self):
-        self.assertEqual((World.__module__, World.__name__), ("trailparts.worlds", "World"))
-        for name, arguments in METHODS.items():
-            self.assertIn(name, vars(World))
-            self.assertTrue(inspect.isfunction(vars(World)[name]), name)
-            self.assertEqual(str(inspect.signature(vars(World)[name])), arguments, name)
+    def test_each_method_stands_in_the_class_itself(self):
+        for kind, place, methods in [(World, "trailparts.worlds", WORLD_METHODS), (Desk, "trailparts.desk", DESK_METHODS)]:
+            self.assertEqual(kind.__module__, place)
+            for name, arguments in methods.items():
+                self.assertIn(name, vars(kind))
+                self.assertTrue(inspect.isfunction(vars(kind)[name]), name)
+                self.assertEqual(str(inspect.signature(vars(kind)[name])), arguments, name)
+
+    def test_the_names_of_the_classes(self):
+        self.assertEqual([World.__name__, Desk.__name__], ["World", "Desk"])
 
 
 if __name__ == "__main__":

@@ -24,12 +24,13 @@ BARRED_NAMES = "register mro elements open input law version_info with_traceback
 # Generators are allowed, but hardly so beside a class with __eq__, and the package does without them.
 BARRED_NODES = (
     ast.Global, ast.AsyncFunctionDef, ast.AsyncFor, ast.AsyncWith, ast.Await, ast.Div, ast.MatMult, ast.Import,
-    ast.ExceptHandler, ast.GeneratorExp, ast.Yield, ast.YieldFrom, ast.Lambda, ast.Starred, ast.NamedExpr,
+    ast.GeneratorExp, ast.Yield, ast.YieldFrom, ast.Lambda, ast.Starred, ast.NamedExpr,
 )
 BUILTIN_METHODS = (
     "append clear copy count endswith extend find get index insert isalnum isalpha isdigit islower isspace isupper items "
     "join keys ljust lower lstrip partition pop remove replace reverse rfind rjust rpartition rsplit rstrip setdefault split "
-    "splitlines startswith strip update upper values zfill bit_length isascii"
+    "splitlines startswith strip update upper values zfill bit_length isascii "
+    "removeprefix"
 ).split()
 
 
@@ -123,6 +124,17 @@ def finally_faults(text, tree):
             or not isinstance(row.value, (ast.Name, ast.Constant)) or not isinstance(row.targets[0], ast.Attribute)]
 
 
+def handler_faults(text, tree):
+    """Return the handlers that do not name own errors."""
+    own = [node.name for node in nodes(ast.parse((PACKAGE / "errors.py").read_text(encoding="utf-8")), ast.ClassDef)]
+    faults = []
+    for node in nodes(tree, ast.ExceptHandler):
+        caught = node.type.elts if isinstance(node.type, ast.Tuple) else [node.type]
+        if not all(isinstance(item, ast.Name) and item.id in own for item in caught):
+            faults.append(node.lineno)
+    return faults
+
+
 def table_faults(text, tree):
     """Return the module-level tables that are used otherwise than by an index or in."""
     tables = [row.targets[0].id for row in tree.body if isinstance(row, ast.Assign) and isinstance(row.value, ast.Dict)]
@@ -182,6 +194,9 @@ class LanguageTest(unittest.TestCase):
 
     def test_finally(self):
         self.assert_none(finally_faults)
+
+    def test_just_own_errors_are_caught(self):
+        self.assert_none(handler_faults)
 
     def test_tables_of_functions(self):
         self.assert_none(table_faults)

@@ -3,8 +3,11 @@
 import unittest
 
 from tests.cases import WorldCase
+from trailparts.histories import played, read_history
 from trailparts.onehouse import as_if
+from trailparts.papers import paper_of
 from trailparts.trails import trail_from
+from trailparts.weights import holders
 from trailparts.worlds import World
 
 
@@ -42,6 +45,8 @@ class ReturnedTest(WorldCase):
             world.letters, world.log, world.history, lambda: world.names("ann"), lambda: world.slots(0),
             lambda: world.slots(2), lambda: world.inside(0, 0), lambda: world.inside(2, 0), lambda: world.inside(2, 1),
             lambda: world.address("ann", "x"), lambda: trail_from(world, 2, 0), lambda: as_if(["ann", "bob"], world.log()),
+            lambda: holders(world, 0, 0), lambda: holders(world, 2, 1), lambda: paper_of(world, 1, 0),
+            lambda: read_history(str(world)), lambda: played(3, ["ann", "bob"], world.history()).log(),
         ]
 
     def test_spoiling_changes_nothing(self):

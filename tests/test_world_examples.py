@@ -1,10 +1,14 @@
-"""The examples that the document gives for worlds and trails."""
+"""The examples that the document gives for worlds and all that is made of them."""
 
 import unittest
 
 from tests.cases import WorldCase
+from trailparts.desk import Desk
 from trailparts.errors import NoTicket
+from trailparts.histories import history_text, played, read_history
+from trailparts.papers import holds, paper_of
 from trailparts.trails import notes_ahead, notes_passed, trail_from
+from trailparts.weights import holders
 from trailparts.worlds import World
 
 
@@ -46,6 +50,27 @@ class ExamplesTest(WorldCase):
         self.assert_exact(w.ask("ann", "x", ("get",)), 1)
         self.assert_exact(w.rest(), 6)
         self.assert_exact(notes_passed(w, 1), 1)
+
+    def test_papers(self):
+        w = World(3, ["ann"])
+        w.make("ann", "x", 0)
+        self.assert_exact(holders(w, 0, 0), [(("variable", "ann", "x"), (1, 1))])
+        self.assert_exact(paper_of(w, 0, 0), ("reached", ("variable", "ann", "x"), [(0, 0)]))
+        self.assertIs(holds(w, 0, 0, ("dead", [(0, 0)])), False)
+
+    def test_histories(self):
+        w = World(2, ["ann"])
+        w.make("ann", "x", 0)
+        self.assert_exact(w.ask("ann", "x", ("give", "b"), target="y"), 1)
+        self.assertEqual(history_text(w.history()), "make ann x 0\nask ann x give b into y")
+        self.assert_exact(read_history("deliver 0"), [("deliver", 0)])
+        self.assertIs(played(2, ["ann"], w.history()) == w, True)
+
+    def test_the_desk(self):
+        d = Desk()
+        self.assertEqual(d.say("world 2 ann"), "ok")
+        self.assertEqual(d.say("make ann x 1"), "ok")
+        self.assertEqual(d.say("slots 1"), "0 object 0 0")
 
 
 if __name__ == "__main__":
