@@ -240,6 +240,13 @@ class DeadTest(PaperCase):
             self.reject(world, house, 0, ("dead", [(0, False), (1, 0), (2, 0)]))
             self.reject(world, house, 0, ("dead", [(0, 0), (True, 0), (2, 0)]))
 
+    def test_houses_and_numbers_below_0_are_no_slots(self):
+        world = self.dropped(self.ring(6))
+        slots = [(house, 0) for house in range(6)]
+        self.accept(world, 0, 0, ("dead", slots))
+        for other in [(-1, 0), (-6, 0), (-7, 0), (0, -1)]:
+            self.reject(world, 0, 0, ("dead", sorted(slots + [other])))
+
     def test_what_a_dead_slot_holds_is_dead_and_the_holder_must_be_listed(self):
         world = self.ring(2)
         world.make("ann", "z", 2)

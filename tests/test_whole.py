@@ -21,6 +21,24 @@ CROWDED = {"make": 5, "ask": 16, "share": 2, "drop": 5, "send": 3, "move": 8, "t
 SHAPES = [(3, ["ann", "bob"]), (1, ["ann"]), (2, ["bob", "ann"]), (6, ["a", "b", "c", "d", "e"])]
 
 
+class Stop(Exception):
+    pass
+
+
+def drawn_event(chance, world, hands):
+    """Return an event that may be impossible."""
+    hand, name, other = chance.choice(hands), chance.choice("xyz"), chance.choice("xyz")
+    house, number = chance.randrange(3), chance.randrange(3)
+    deeds = [(("get",), None, None), (("add", 3), None, None), (("take", "b"), other, None), (("give", "b"), None, other),
+             (("clone",), None, other), (("clear", "b"), None, None)]
+    return chance.choice([
+        ("make", hand, name, house), ("ask", hand, name) + chance.choice(deeds), ("ask", hand, name) + chance.choice(deeds),
+        ("share", hand, name, other), ("drop", hand, name), ("send", hand, name, chance.choice(hands), other),
+        ("move", house, number, chance.randrange(3)), ("tidy", house, number, "b"), ("look",),
+        ("deliver", chance.randrange(3)), ("deliver", chance.randrange(1 + len(world))),
+    ])
+
+
 class WholeTest(unittest.TestCase):
     def drawn(self, count, events):
         """Yield worlds after drawn histories, each with its hands, something to draw with, and the model."""
@@ -150,6 +168,53 @@ class WholeTest(unittest.TestCase):
             for house in range(houses):
                 told = desk.say(f"slots {house}")
                 self.assertEqual(0 if told == "none" else len(told.split(", ")), len(world.slots(house)))
+
+    def test_trials_within_trials_leave_nothing(self):
+        for seed in range(12):
+            chance = random.Random(8000 + seed)
+            world = World(3, ["ann", "bob"])
+            self.steps = 0
+            self.wander(world, chance, 0)
+            while self.steps < 150:
+                self.wander(world, chance, 0)
+
+    def wander(self, world, chance, depth):
+        """Do what may come: events, rests, trials, each of which may end in an error."""
+        hands = ["ann", "bob"]
+        for step in range(chance.randrange(6, 14)):
+            self.steps += 1
+            what = chance.random()
+            try:
+                if what < 0.06:
+                    world.rest(by=lambda letters: self.choose(letters, chance))
+                elif what < 0.2 and depth < 4:
+                    self.check_trial(world, chance, depth)
+                else:
+                    do_event(world, drawn_event(chance, world, hands))
+            except (LookupError, Stop):
+                pass
+            self.assertTrue(played(3, hands, world.history()) == world)
+        if depth > 0 and chance.random() < 0.4:
+            raise Stop
+
+    def choose(self, letters, chance):
+        if chance.random() < 0.1:
+            raise Stop
+        return chance.randrange(1000)
+
+    def check_trial(self, world, chance, depth):
+        """Wander in a trial, and compare the world afterwards with what it was."""
+        hands = ["ann", "bob"]
+        before = (view(world, 3, hands), [holders(world, *place) for place in self.occupied(world)])
+        twin = played(3, hands, world.history())
+        try:
+            world.trial(lambda world: self.wander(world, chance, depth + 1))
+        finally:
+            self.assertEqual((view(world, 3, hands), [holders(world, *place) for place in self.occupied(world)]), before)
+            self.assertTrue(world == twin)
+            for event in [("make", "ann", "x", 0), ("ask", "ann", "x", ("get",), None, None), ("look",)]:
+                self.assertEqual(do_event(world, event), do_event(twin, event))
+            self.assertEqual(view(world, 3, hands), view(twin, 3, hands))
 
     def test_six_hundred_events(self):
         chance = random.Random(600)

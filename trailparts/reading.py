@@ -1,6 +1,6 @@
 """Rows that are read: their words, and the events that they tell."""
 
-from trailparts.deeds import WORDS_ALONE, is_complete, is_deed
+from trailparts.deeds import WORDS_ALONE, is_complete
 from trailparts.values import is_digits, is_name
 
 # What follows the first word of each row of a history; asks have a form of their own.
@@ -76,8 +76,6 @@ def ask_of(words):
     if len(words) < 4 or not is_name(words[1]) or not is_name(words[2]):
         return None
     deed = deed_of(words[3:])
-    if deed is None:
-        return None
     named = {"with": None, "into": None}
     rest = words[3 + len(deed):]
     # No deed takes both a gift and a target.
@@ -93,14 +91,10 @@ def ask_of(words):
 
 
 def deed_of(words):
-    """Return the deed with which words begin, or None."""
+    """Return what words begin with, as a deed; it may be none."""
     word = words[0]
     if word in WORDS_ALONE or len(words) == 1:
-        deed = (word,)
-    elif word == "add":
-        deed = (word, integer_told(words[1]))
-    else:
-        deed = (word, words[1])
-    if not is_deed(deed):
-        return None
-    return deed
+        return (word,)
+    if word == "add":
+        return (word, integer_told(words[1]))
+    return (word, words[1])
